@@ -1,0 +1,1 @@
+"""Rings of beads of a few colours."""
