@@ -1,10 +1,9 @@
 """Words: texts of 1 to 60 letters a to h, turned and mirrored."""
 
 from beadrings.errors import BadNumber, BadWord
-from beadrings.wholes import is_whole
+from beadrings.wholes import MOST_LETTERS, is_whole
 
 LETTERS = "abcdefgh"
-MOST_LETTERS = 60
 
 
 def is_word(thing):
@@ -21,6 +20,11 @@ def need_word(thing):
     """Refuse with BadWord what is no word."""
     if not is_word(thing):
         raise BadWord("a word is a text of 1 to 60 letters a to h")
+
+
+def is_of_colours(word, colours):
+    """True if the word has no letters but the first so many, else False."""
+    return all([letter in LETTERS[:colours] for letter in word])
 
 
 def turned(word, by):

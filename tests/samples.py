@@ -45,6 +45,14 @@ NOT_WHOLE = [
     "", "0", "1", "a", b"1", [], [1], (), (1,), {}, {1: 1}, {1}, range(3), object(), int, Odd(),
 ]
 
+BEYOND_ALL = [10 ** 20, -10 ** 20, 10 ** 3999, -10 ** 3999]
+
+NOT_LENGTHS = NOT_WHOLE + [0, -1, 61, 62, -60] + BEYOND_ALL
+
+NOT_COLOURS = NOT_WHOLE + [0, -1, 9, 10, -8] + BEYOND_ALL
+
+NOT_RINGS = NOT_WORDS + ["ba", "aba", "baba", "hg", "abca", "b" + "a" * 59, "h" * 59 + "a", "ab" * 29 + "aa"]
+
 LONG_WORDS = [
     "a" * 60, "h" * 60, "ab" * 30, "abcdefgh" * 7 + "abcd", "a" * 59 + "b", "b" + "a" * 59, "h" * 59 + "a",
     "abc" * 20, "abc" * 19 + "abd", "abb" + "abc" * 19, "abcdef" * 5 + "abcdeg" * 5, "a" * 30 + "b" * 30,
@@ -75,3 +83,22 @@ def stepped(word, by):
         word = word[-1] + word[:-1]
         by = by + 1
     return word
+
+
+def rings_by_trial(length, colours):
+    """All rings, rising: what is least among its turnings, of all words."""
+    return [
+        word for word in words_of(length, LETTERS[:colours])
+        if all(word <= stepped(word, by) for by in range(1, length))
+    ]
+
+
+# The counts of colours with the lengths for which a trial of all words is quick.
+SHORT_SIZES = (
+    [(length, 1) for length in range(1, 61)] + [(length, 2) for length in range(1, 13)]
+    + [(length, 3) for length in range(1, 8)] + [(length, 4) for length in range(1, 7)]
+    + [(length, 5) for length in range(1, 6)]
+    + [(length, colours) for colours in (6, 7, 8) for length in range(1, 5)]
+)
+
+ALL_SIZES = [(length, colours) for length in range(1, 61) for colours in range(1, 9)]

@@ -14,6 +14,16 @@ FUNCTIONS = {
         "period": ["word"],
     },
     "parting.py": {"parts_of": ["word"], "is_prime": ["thing"]},
+    "orders.py": {
+        "next_ring": ["ring", "colours"], "all_rings": ["length", "colours"], "number_of": ["ring", "colours"],
+        "ring_at": ["number", "length", "colours"],
+    },
+    "counts.py": {
+        "many_rings": ["length", "colours"], "many_primes": ["length", "colours"],
+        "many_mirrored": ["length", "colours"], "many_own": ["length", "colours"],
+    },
+    "mirrors.py": {"mirror_of": ["word"], "is_own_mirror": ["word"]},
+    "chains.py": {"long_word": ["length", "colours"], "place_of": ["text", "length", "colours"]},
 }
 
 CLASSES = {
